@@ -255,6 +255,20 @@ func TestLong(t *testing.T) {
 	}
 }
 
+func TestPi(t *testing.T) {
+	for _, n := range []int{2, 30, 64, 500} {
+		unit := integer.Shift(integer.Of(1), n)
+		below, _ := rat.Make(Pi(n), unit)
+		above, _ := rat.Make(integer.Add(Pi(n), integer.Of(1)), unit)
+		if integer.Sign(must(t, api.Sin, below, 2*n+9)) != 1 || integer.Sign(must(t, api.Sin, above, 2*n+9)) != -1 {
+			t.Fatal("Sin turns its sign", n)
+		}
+		if c := must(t, api.Cos, below, n); integer.Cmp(c, integer.Neg(unit)) != 0 {
+			t.Fatal("Cos is -1", n)
+		}
+	}
+}
+
 func TestExamples(t *testing.T) {
 	if integer.Text(must(t, api.Exp, frac(1, 1), 10)) != "2783" || integer.Text(must(t, api.Sin, frac(-1, 1), 4)) != "-14" {
 		t.Fatal("examples")

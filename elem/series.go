@@ -57,15 +57,15 @@ func two(w int) near {
 
 // parts tells x over 2^w, which is below 1 in size, as a sum of numbers a over 2^e; of each s is known so that it is not above 2^-s in size.
 func parts(x api.Int, w int, each func(a api.Int, e, s int)) {
-	s := 0
-	for e := firstBits; integer.Sign(x) != 0; e *= 2 {
-		e := min(e, w)
-		a := integer.Shift(size(x), e-w)
-		rest := integer.Sub(size(x), integer.Shift(a, w-e))
+	neg, left := x.Neg, size(x)
+	e, s := min(firstBits, w), 0
+	for integer.Sign(left) != 0 {
+		a := integer.Shift(left, e-w)
 		if integer.Sign(a) != 0 {
-			each(integer.Make(x.Neg, a.Mag), e, s)
+			each(integer.Make(neg, a.Mag), e, s)
 		}
-		x, s = integer.Make(x.Neg, rest.Mag), e
+		left = integer.Sub(left, integer.Shift(a, w-e))
+		e, s = min(2*e, w), e
 	}
 }
 
