@@ -130,8 +130,8 @@ func terms(y within, each func(k int, term within)) within {
 	return term
 }
 
-// above0 is it, or, where its lower end is below 0 but it is not, from 0 on.
-func (a within) above0() within {
+// notBelow is it, or, where its lower end is below 0 but it is not, from 0 on.
+func (a within) notBelow() within {
 	if a.lo.Neg {
 		a.lo = api.Int{}
 	}
@@ -142,7 +142,7 @@ func (a within) above0() within {
 func expOf(r within) within {
 	s := steps(r.p)
 	sum := exactly(of(1), 0, r.p)
-	last := terms(r.above0().halved(s), func(k int, term within) { sum = sum.plus(term) })
+	last := terms(r.notBelow().halved(s), func(k int, term within) { sum = sum.plus(term) })
 	sum.hi = integer.Add(sum.hi, last.hi)
 	for range s {
 		sum = sum.times(sum)
@@ -157,7 +157,7 @@ type turn struct{ sin, cos within }
 func turnOf(r within) turn {
 	s := steps(r.p) + 2
 	z := turn{exactly(api.Int{}, 0, r.p), exactly(of(1), 0, r.p)}
-	last := terms(r.above0().halved(s), func(k int, term within) {
+	last := terms(r.notBelow().halved(s), func(k int, term within) {
 		switch k % 4 {
 		case 0:
 			z.cos = z.cos.plus(term)
@@ -179,8 +179,8 @@ func turnOf(r within) turn {
 // inner is how many digits are reckoned with for p that are right: each halving is undone, and costs two.
 func inner(p int) int { return p + 3*steps(p) + 64 }
 
-// times2 is how often the logarithm of 2 is taken away from a over 2^w: at most so often that what is left is not below 0, and so often that it is below 1.
-func times2(a api.Int, w, more int) api.Int {
+// logarithms is how often the logarithm of 2 is taken away from a over 2^w: at most so often that what is left is not below 0, and so often that it is below 1.
+func logarithms(a api.Int, w, more int) api.Int {
 	l := two(more + 64)
 	under := l.hi
 	if a.Neg {
@@ -193,7 +193,7 @@ func times2(a api.Int, w, more int) api.Int {
 // exp is a number that Exp of a over 2^w is 2^k times of: the number is from 1 to 2, about.
 func exp(a api.Int, w, p int) (within, int) {
 	more := max(len(a.Mag)*32-w, 0)
-	k := times2(a, w, more)
+	k := logarithms(a, w, more)
 	p = inner(p)
 	r, l := exactly(a, w, p+more), two(p+more)
 	if k.Neg {

@@ -37,30 +37,30 @@ func length(a []uint32) int {
 	return 32*(len(a)-1) + bits.Len32(a[len(a)-1])
 }
 
-// size3 is the degree of an algebraic whole number over another one, and the bits of what their conjugates are at most.
-type size3 struct{ d, u, l int }
+// bounds is the degree of an algebraic whole number over another one, and the bits of what their conjugates are at most.
+type bounds struct{ d, u, l int }
 
 // sizeOf is that of a node, of its parts'.
-func sizeOf(x api.Node, p []size3) size3 {
-	var z size3
+func sizeOf(x api.Node, p []bounds) bounds {
+	var z bounds
 	switch x.Op {
 	case api.Num:
-		z = size3{1, length(x.Q.Num.Mag), length(x.Q.Den)}
+		z = bounds{1, length(x.Q.Num.Mag), length(x.Q.Den)}
 	case api.Neg:
 		z = p[0]
 	case api.Add, api.Sub:
-		z = size3{p[0].d * p[1].d, max(p[0].u+p[1].l, p[0].l+p[1].u) + 1, p[0].l + p[1].l}
+		z = bounds{p[0].d * p[1].d, max(p[0].u+p[1].l, p[0].l+p[1].u) + 1, p[0].l + p[1].l}
 	case api.Mul:
-		z = size3{p[0].d * p[1].d, p[0].u + p[1].u, p[0].l + p[1].l}
+		z = bounds{p[0].d * p[1].d, p[0].u + p[1].u, p[0].l + p[1].l}
 	case api.Div:
-		z = size3{p[0].d * p[1].d, p[0].u + p[1].l, p[0].l + p[1].u}
+		z = bounds{p[0].d * p[1].d, p[0].u + p[1].l, p[0].l + p[1].u}
 	case api.Pow:
-		z = size3{p[0].d, x.N * p[0].u, x.N * p[0].l}
+		z = bounds{p[0].d, x.N * p[0].u, x.N * p[0].l}
 		if x.N < 0 {
-			z = size3{p[0].d, -x.N * p[0].l, -x.N * p[0].u}
+			z = bounds{p[0].d, -x.N * p[0].l, -x.N * p[0].u}
 		}
 	case api.Root:
-		z = size3{p[0].d * x.N, (p[0].u + (x.N-1)*p[0].l + x.N - 1) / x.N, p[0].l}
+		z = bounds{p[0].d * x.N, (p[0].u + (x.N-1)*p[0].l + x.N - 1) / x.N, p[0].l}
 	case api.RootOf:
 		lead := size(x.P[len(x.P)-1])
 		greatest := api.Int{}
@@ -69,9 +69,9 @@ func sizeOf(x api.Node, p []size3) size3 {
 				greatest = size(c)
 			}
 		}
-		z = size3{len(x.P) - 1, length(integer.Add(lead, greatest).Mag), length(lead.Mag)}
+		z = bounds{len(x.P) - 1, length(integer.Add(lead, greatest).Mag), length(lead.Mag)}
 	}
-	return size3{min(z.d, most), min(z.u, most), min(z.l, most)}
+	return bounds{min(z.d, most), min(z.u, most), min(z.l, most)}
 }
 
 // apart is a number B, and yes: the value of e, which has no function and no pi, is 0 or in size not below 2^-B.
@@ -79,7 +79,7 @@ func apart(e []api.Node) (int, bool) {
 	if isReal(e) {
 		return 0, false
 	}
-	var pile []size3
+	var pile []bounds
 	for _, x := range slices.Backward(e) {
 		n, _ := arity(x.Op)
 		parts := slices.Clone(pile[len(pile)-n:])
