@@ -167,6 +167,21 @@ func TestGcd(t *testing.T) {
 	}
 }
 
+func TestModularLook(t *testing.T) {
+	// Alike, or with another lead, modulo the prime by which it is looked first.
+	x, y := of(0, 1), of(-prime, 1)
+	if apart(x, y) || !equal(Gcd(x, y), of(1)) || !equal(Gcd(poly.Mul(x, x), poly.Mul(x, y)), x) {
+		t.Fatal("alike modulo the prime")
+	}
+	a, b := poly.Mul(of(1, prime), of(3, 1)), poly.Mul(of(1, prime), of(5, 0, 1))
+	if apart(a, b) || !equal(Gcd(a, b), of(1, prime)) || !equal(Gcd(b, a), of(1, prime)) {
+		t.Fatal("a lead that is 0 modulo the prime")
+	}
+	if !apart(of(-2, 0, 1), of(-3, 0, 1)) || apart(of(-2, 0, 1), of(-4, 0, 2)) || !apart(of(7), of(0, 1)) {
+		t.Fatal("apart")
+	}
+}
+
 func TestResultants(t *testing.T) {
 	l := polys()
 	for _, a := range l {

@@ -34,7 +34,7 @@ func (s scale) function(x api.Node, p []pair, part []api.Node) holds {
 	a := p[0]
 	switch x.N {
 	case api.Exp:
-		return inside(pair{s.exp(a[0])[0], s.exp(a[1])[1]})
+		return inside(pair{s.expAt(a[0])[0], s.expAt(a[1])[1]})
 	case api.Log:
 		return s.log(a, part)
 	case api.Atan:
@@ -45,17 +45,30 @@ func (s scale) function(x api.Node, p []pair, part []api.Node) holds {
 	return inside(s.wave(x.N, a))
 }
 
-// exp is the span of Exp at a over the unit.
-func (s scale) exp(a api.Int) pair {
+// recalled is the span of a function at a over the unit: what was told of it, or what tell tells now.
+func (s scale) recalled(f int, a api.Int, tell func() pair) pair {
+	key := integer.Text(of(f)) + " " + integer.Text(a)
+	x, is := s.known[key]
+	if !is {
+		x = tell()
+		s.known[key] = x
+	}
+	return x
+}
+
+// expAt is the span of Exp at a over the unit.
+func (s scale) expAt(a api.Int) pair {
 	must(integer.Cmp(size(a), integer.Shift(s.unit, 12)) <= 0)
 	if integer.Sign(a) == 0 {
 		return both(s.unit, true)
 	}
-	return both(s.floor(func(p int) within {
-		z, k := exp(a, s.w, p+max(times(a, s.w), 0))
-		z.p -= k
-		return z
-	}), false)
+	return s.recalled(api.Exp, a, func() pair {
+		return both(s.floor(func(p int) within {
+			z, k := s.exp(a, s.w, p+max(times(a, s.w), 0))
+			z.p -= k
+			return z
+		}), false)
+	})
 }
 
 // times is about how many bits Exp of a over 2^w has ahead of its point: not fewer.
@@ -74,13 +87,15 @@ func (s scale) wave(f int, a pair) pair {
 	case integer.Sign(m) == 0 && f == api.Cos:
 		mid = both(s.unit, true)
 	case integer.Sign(m) != 0:
-		mid = both(s.floor(func(p int) within {
-			z := turned(m, s.w, p)
-			if f == api.Sin {
-				return z.sin
-			}
-			return z.cos
-		}), false)
+		mid = s.recalled(f, m, func() pair {
+			return both(s.floor(func(p int) within {
+				z := s.turned(m, s.w, p)
+				if f == api.Sin {
+					return z.sin
+				}
+				return z.cos
+			}), false)
+		})
 	}
 	lo, hi := integer.Sub(mid[0], r), integer.Add(mid[1], r)
 	if least := integer.Neg(s.unit); integer.Cmp(lo, least) < 0 {
@@ -114,7 +129,7 @@ func (s scale) compareLog(x, m api.Int) int {
 	}
 	order := 0
 	decided(s.w+digits, func(p int) (bool, bool) {
-		z, k := exp(x, s.w, p)
+		z, k := s.exp(x, s.w, p)
 		// z, times 2^(k - p), against m, times 2^-w: both times a power of 2 are whole.
 		by := k - z.p + s.w
 		lo, hi, n := integer.Shift(z.lo, max(by, 0)), integer.Shift(z.hi, max(by, 0)), integer.Shift(m, max(-by, 0))
@@ -144,7 +159,7 @@ func (s scale) compareAtan(x, m api.Int) int {
 	}
 	order := 0
 	decided(s.w+digits, func(p int) (bool, bool) {
-		z := turned(size(x), s.w, p+max(length(m.Mag)-s.w, 0))
+		z := s.turned(size(x), s.w, p+max(length(m.Mag)-s.w, 0))
 		// Of less than two the cosine is below 0 just beyond a quarter turn; else sines are held against cosines times m.
 		lo, hi := integer.Shift(z.sin.lo, s.w), integer.Shift(z.sin.hi, s.w)
 		switch {

@@ -36,10 +36,17 @@ func inside(a pair) holds {
 // rule is what the table makes of the spans of a node's parts; part is the first part's expression.
 type rule func(x api.Node, p []pair, part []api.Node) holds
 
-// scale is a width, and its unit.
+// scale is a width, its unit, and what is reckoned but once in a proof: constants, and spans of functions at a number.
 type scale struct {
 	w    int
 	unit api.Int
+	constants
+	known map[string]pair
+}
+
+// scaleOf is that of a width.
+func scaleOf(w int) scale {
+	return scale{w, power(w), constants{map[int]within{}, map[int]within{}}, map[string]pair{}}
 }
 
 // rules are those of all nodes.
@@ -61,7 +68,7 @@ func (s scale) rules() map[int]rule {
 		api.RootOf: s.rootOf,
 		api.Func:   s.function,
 		api.Pi: known(func(x api.Node, p []pair) pair {
-			f := s.floor(func(p int) within { return pi(p) })
+			f := s.floor(s.pi)
 			return pair{f, integer.Add(f, of(1))}
 		}),
 	}
@@ -196,7 +203,7 @@ func check(e []api.Node, p api.Proof) {
 	for _, a := range p.Spans {
 		must(integer.Right(a[0]) && integer.Right(a[1]) && integer.Cmp(a[0], a[1]) <= 0)
 	}
-	s := scale{p.W, power(p.W)}
+	s := scaleOf(p.W)
 	rules := s.rules()
 	// node looks at the expression that begins at a place, and tells where it ends.
 	var node func(i int) int

@@ -103,13 +103,30 @@ func arc(kind, q, p int) within {
 	return within{integer.Sub(f, of(1)), integer.Add(f, of(2)), p}
 }
 
+// constants are those that were asked for in one proof, by their digits.
+type constants struct{ pis, twos map[int]within }
+
+// once is what is kept for p, or what tell tells now.
+func once(kept map[int]within, p int, tell func() within) within {
+	x, is := kept[p]
+	if !is {
+		x = tell()
+		kept[p] = x
+	}
+	return x
+}
+
 // pi is 16 Atan of 1/5 less 4 of 1/239 (Machin).
-func pi(p int) within {
-	return arc(api.Atan, 5, p).by(of(16)).minus(arc(api.Atan, 239, p).by(of(4)))
+func (c constants) pi(p int) within {
+	return once(c.pis, p, func() within {
+		return arc(api.Atan, 5, p).by(of(16)).minus(arc(api.Atan, 239, p).by(of(4)))
+	})
 }
 
 // two is the logarithm of 2: twice atanh of 1/3.
-func two(p int) within { return arc(api.Log, 3, p).by(of(2)) }
+func (c constants) two(p int) within {
+	return once(c.twos, p, func() within { return arc(api.Log, 3, p).by(of(2)) })
+}
 
 // steps is how often an argument is halved ahead of its series: as many times as there are terms then, about.
 func steps(p int) int {
@@ -130,8 +147,8 @@ func terms(y within, each func(k int, term within)) within {
 	return term
 }
 
-// notBelow is it, or, where its lower end is below 0 but it is not, from 0 on.
-func (a within) notBelow() within {
+// fromZero is it, or, where its lower end is below 0 but it is not, from 0 on.
+func (a within) fromZero() within {
 	if a.lo.Neg {
 		a.lo = api.Int{}
 	}
@@ -142,7 +159,7 @@ func (a within) notBelow() within {
 func expOf(r within) within {
 	s := steps(r.p)
 	sum := exactly(of(1), 0, r.p)
-	last := terms(r.notBelow().halved(s), func(k int, term within) { sum = sum.plus(term) })
+	last := terms(r.fromZero().halved(s), func(k int, term within) { sum = sum.plus(term) })
 	sum.hi = integer.Add(sum.hi, last.hi)
 	for range s {
 		sum = sum.times(sum)
@@ -157,7 +174,7 @@ type turn struct{ sin, cos within }
 func turnOf(r within) turn {
 	s := steps(r.p) + 2
 	z := turn{exactly(api.Int{}, 0, r.p), exactly(of(1), 0, r.p)}
-	last := terms(r.notBelow().halved(s), func(k int, term within) {
+	last := terms(r.fromZero().halved(s), func(k int, term within) {
 		switch k % 4 {
 		case 0:
 			z.cos = z.cos.plus(term)
@@ -180,8 +197,8 @@ func turnOf(r within) turn {
 func inner(p int) int { return p + 3*steps(p) + 64 }
 
 // logarithms is how often the logarithm of 2 is taken away from a over 2^w: at most so often that what is left is not below 0, and so often that it is below 1.
-func logarithms(a api.Int, w, more int) api.Int {
-	l := two(more + 64)
+func (c constants) logarithms(a api.Int, w, more int) api.Int {
+	l := c.two(more + 64)
 	under := l.hi
 	if a.Neg {
 		under = l.lo
@@ -191,11 +208,11 @@ func logarithms(a api.Int, w, more int) api.Int {
 }
 
 // exp is a number that Exp of a over 2^w is 2^k times of: the number is from 1 to 2, about.
-func exp(a api.Int, w, p int) (within, int) {
+func (c constants) exp(a api.Int, w, p int) (within, int) {
 	more := max(len(a.Mag)*32-w, 0)
-	k := logarithms(a, w, more)
+	k := c.logarithms(a, w, more)
 	p = inner(p)
-	r, l := exactly(a, w, p+more), two(p+more)
+	r, l := exactly(a, w, p+more), c.two(p+more)
 	if k.Neg {
 		r = r.plus(l.by(size(k)))
 	} else {
@@ -218,10 +235,10 @@ func number(a api.Int) (int, bool) {
 }
 
 // turned is Sin and Cos of a over 2^w.
-func turned(a api.Int, w, p int) turn {
+func (c constants) turned(a api.Int, w, p int) turn {
 	more := max(len(a.Mag)*32-w, 0)
 	p = inner(p)
-	quarter := pi(p + more).halved(1)
+	quarter := c.pi(p + more).halved(1)
 	x := exactly(size(a), w, p+more)
 	k, _, _ := integer.DivMod(x.lo, quarter.hi)
 	z := turnOf(x.minus(quarter.by(k)).scaled(p))
