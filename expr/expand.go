@@ -3,7 +3,6 @@ package expr
 import (
 	"ziggurat/api"
 	"ziggurat/integer"
-	"ziggurat/nat"
 	"ziggurat/rat"
 )
 
@@ -75,8 +74,8 @@ func (r *row) series(e []api.Node, names *meaning, op int, none api.Node) {
 		r.add(none)
 		return
 	}
-	n, is := nat.Low(more.Mag)
-	if !is || n > api.MaxNodes {
+	n := low(more)
+	if n > api.MaxNodes {
 		panic(tooLong{})
 	}
 	for range n {

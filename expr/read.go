@@ -5,7 +5,6 @@ import (
 
 	"ziggurat/api"
 	"ziggurat/integer"
-	"ziggurat/nat"
 	"ziggurat/rat"
 )
 
@@ -152,14 +151,21 @@ func (r *reader) whole() api.Int {
 	return r.natural()
 }
 
+// low is a whole number without its sign, or, of one above 32 bits, a number that is too great for anything.
+func low(n api.Int) int {
+	switch len(n.Mag) {
+	case 0:
+		return 0
+	case 1:
+		return int(n.Mag[0])
+	}
+	return 1 << 40
+}
+
 // small is a whole number as one of Go, or one that is too great for anything.
 func (r *reader) small() int {
 	n := r.whole()
-	m, is := nat.Low(n.Mag)
-	if !is || m > 1<<40 {
-		m = 1 << 40
-	}
-	return int(m) * integer.Sign(n)
+	return low(n) * integer.Sign(n)
 }
 
 // expression reads one.
