@@ -1,6 +1,8 @@
 package kernel
 
 import (
+	"cmp"
+
 	"ziggurat/api"
 	"ziggurat/integer"
 	"ziggurat/rat"
@@ -12,11 +14,11 @@ const digits = 32
 // floor is a value that is not whole, times the unit, floored.
 func (s scale) floor(value func(p int) within) api.Int {
 	var f api.Int
-	decided(s.w+digits, func(p int) (bool, bool) {
+	goOn(s.w+digits, func(p int) bool {
 		v := value(p)
 		lo, hi := integer.Shift(v.lo, s.w-v.p), integer.Shift(v.hi, s.w-v.p)
 		f = lo
-		return true, integer.Cmp(lo, hi) == 0
+		return integer.Cmp(lo, hi) == 0
 	})
 	return f
 }
@@ -128,7 +130,7 @@ func (s scale) compareLog(x, m api.Int) int {
 		return -1
 	}
 	order := 0
-	decided(s.w+digits, func(p int) (bool, bool) {
+	goOn(s.w+digits, func(p int) bool {
 		z, k := s.exp(x, s.w, p)
 		// z, times 2^(k - p), against m, times 2^-w: both times a power of 2 are whole.
 		by := k - z.p + s.w
@@ -139,7 +141,7 @@ func (s scale) compareLog(x, m api.Int) int {
 		case integer.Cmp(lo, n) > 0:
 			order = 1
 		}
-		return true, order != 0
+		return order != 0
 	})
 	return order
 }
@@ -153,12 +155,12 @@ func (s scale) atan(a pair) holds {
 func (s scale) compareAtan(x, m api.Int) int {
 	switch {
 	case integer.Sign(x) == 0 || integer.Sign(m) == 0 || x.Neg != m.Neg:
-		return integer.Cmp(integer.Of(int64(integer.Sign(x))), integer.Of(int64(integer.Sign(m))))
+		return cmp.Compare(integer.Sign(x), integer.Sign(m))
 	case integer.Cmp(size(x), integer.Shift(s.unit, 1)) >= 0:
 		return integer.Sign(x)
 	}
 	order := 0
-	decided(s.w+digits, func(p int) (bool, bool) {
+	goOn(s.w+digits, func(p int) bool {
 		z := s.turned(size(x), s.w, p+max(length(m.Mag)-s.w, 0))
 		// Of less than two the cosine is below 0 just beyond a quarter turn; else sines are held against cosines times m.
 		lo, hi := integer.Shift(z.sin.lo, s.w), integer.Shift(z.sin.hi, s.w)
@@ -171,7 +173,7 @@ func (s scale) compareAtan(x, m api.Int) int {
 		case integer.Cmp(hi, integer.Mul(size(m), z.cos.lo)) < 0:
 			order = -1
 		}
-		return true, order != 0
+		return order != 0
 	})
 	return order * integer.Sign(x)
 }

@@ -254,12 +254,9 @@ func (c constants) turned(a api.Int, w, p int) turn {
 	return z
 }
 
-// decided asks at more and more digits, until both ends say the same.
-func decided(p int, ask func(p int) (bool, bool)) bool {
-	for {
-		if is, sure := ask(p); sure {
-			return is
-		}
+// goOn asks at more and more digits, until these are enough.
+func goOn(p int, enough func(p int) bool) {
+	for !enough(p) {
 		p *= 2
 	}
 }
